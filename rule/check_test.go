@@ -1,6 +1,7 @@
 package rule_test
 
 import (
+	"math"
 	"slices"
 	"strconv"
 	"strings"
@@ -333,6 +334,30 @@ func TestNames(t *testing.T) {
 	long := api.Cond{Terms: slices.Repeat(termsOf(less("b", 1), less("a", 1)).Terms, api.MaxTerms)}
 	if got := rule.Names(long); strings.Join(got, " ") != "a b" {
 		t.Error(got)
+	}
+}
+
+// TestNamesByKind is the table of kinds: only comparisons name a fact, by whatever name, also in a condition that is not valid.
+func TestNamesByKind(t *testing.T) {
+	compares := map[int]bool{api.TmLess: true, api.TmMost: true, api.TmIs: true}
+	for _, kind := range []int{math.MinInt, -1, api.TmTrue, api.TmLess, api.TmMost, api.TmIs, api.TmNot, api.TmAnd, api.TmOr, 7, 9, math.MaxInt} {
+		for _, name := range append(goodNames(), badNames()...) {
+			for _, x := range []api.Term{{}, {Num: 3}, {A: 1, B: -1}, {Num: math.MaxInt, A: 99}} {
+				x.Kind, x.Name = kind, name
+				var want []string
+				if compares[kind] {
+					want = []string{name}
+				}
+				if got := rule.Names(termsOf(x)); !slices.Equal(got, want) {
+					t.Errorf("%+v: %q, want %q", x, got, want)
+				}
+				// A name counts once, and those of other terms are ahead of it or behind it.
+				want = slices.Compact(slices.Sorted(slices.Values(append(want, "", "m"))))
+				if got := rule.Names(termsOf(is("m", 1), x, less("", 0), x, most("m", 2))); !slices.Equal(got, want) {
+					t.Errorf("%+v among others: %q, want %q", x, got, want)
+				}
+			}
+		}
 	}
 }
 
